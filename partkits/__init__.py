@@ -1,0 +1,1 @@
+"""Partkits: things built of parts from kits, what can be built of what lies there, and papers for it."""

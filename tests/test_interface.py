@@ -1,0 +1,57 @@
+"""The interface: names, arguments and defaults, each defined in the file under which it is listed."""
+
+import ast
+import importlib
+import inspect
+import pathlib
+import unittest
+
+PACKAGE = pathlib.Path(__file__).resolve().parent.parent / "partkits"
+FUNCTIONS = {
+    "kinds": ("is_number(thing)", "is_word(thing)", "is_part_rows(thing)"),
+    "sheets": ("is_want(thing)", "is_way(thing)", "is_sheet(thing)", "is_plain(sheet)", "choices(sheet)",
+               "wants_of(sheet, choice=None)", "joined(one, other)", "tidy(sheet)"),
+    "sorting": ("sorted_parts(rows, by='form', turned=False)", "sorted_sheets(named, by='name', turned=False)"),
+}
+CLASSES = {
+    "errors": {name: () for name in (
+        "KitError", "HeapError", "PaperError", "PageError", "TextError", "NoParts", "NoThing", "NoPaper", "NoDealing",
+        "NoKits", "NoPage", "NoBack", "NoText", "NoLine")},
+    "heaps": {"Heap": ("__init__(self, rows=None)", "rows(self)", "many(self, form, shade=None)", "forms(self)",
+                       "plus(self, other)", "less(self, other)", "holds(self, other)", "__eq__(self, other)",
+                       "__len__(self)", "__bool__(self)", "__str__(self)", "__repr__(self)")},
+}
+
+
+def defined_in(module):
+    """What a file of the package itself defines at its top, by name."""
+    tree = ast.parse((PACKAGE / f"{module}.py").read_text())
+    return {node.name: node for node in tree.body if isinstance(node, (ast.FunctionDef, ast.ClassDef))}
+
+
+class Interface(unittest.TestCase):
+    def test_functions(self):
+        for module, listed in FUNCTIONS.items():
+            loaded = importlib.import_module(f"partkits.{module}")
+            for line in listed:
+                name = line.partition("(")[0]
+                self.assertIsInstance(defined_in(module).get(name), ast.FunctionDef, line)
+                self.assertEqual(name + str(inspect.signature(getattr(loaded, name))), line)
+
+    def test_classes(self):
+        for module, listed in CLASSES.items():
+            loaded = importlib.import_module(f"partkits.{module}")
+            for name, methods in listed.items():
+                self.assertIsInstance(defined_in(module).get(name), ast.ClassDef, name)
+                for line in methods:
+                    method = vars(getattr(loaded, name))[line.partition("(")[0]]
+                    self.assertEqual(line.partition("(")[0] + str(inspect.signature(method)), line)
+
+    def test_a_heap_keeps_no_list_or_dict(self):
+        from partkits.heaps import Heap
+        for kept in vars(Heap((("brick", "red", 3),))).values():
+            self.assertIsInstance(kept, tuple)
+
+
+if __name__ == "__main__":
+    unittest.main()

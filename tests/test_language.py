@@ -1,0 +1,194 @@
+"""The rules of LANGUAGE.md that can be seen from a file alone, for every file of the package."""
+
+import ast
+import builtins
+import pathlib
+import re
+import unittest
+
+PACKAGE = pathlib.Path(__file__).resolve().parent.parent / "partkits"
+FILES = sorted(PACKAGE.rglob("*.py"))
+TREES = {path: ast.parse(path.read_text()) for path in FILES}
+
+BUILTINS = set("""len range enumerate zip min max sum abs sorted reversed int str bool bytes list tuple dict set frozenset
+    isinstance ord repr any all divmod iter next super property staticmethod classmethod Exception ValueError TypeError
+    KeyError IndexError LookupError ZeroDivisionError ArithmeticError OverflowError RuntimeError NotImplementedError
+    AttributeError StopIteration NotImplemented""".split())
+METHODS = set("""append clear copy count endswith extend find get index insert isalnum isalpha isdigit islower isspace
+    isupper items join keys ljust lower lstrip partition pop remove replace reverse rfind rjust rpartition rsplit rstrip
+    setdefault split splitlines startswith strip update upper values zfill bit_length title capitalize swapcase casefold
+    center expandtabs removeprefix removesuffix rindex isascii isdecimal isnumeric istitle isidentifier isprintable
+    translate add discard""".split())
+DOUBLE = set("""init eq repr str len enter exit call iter lt le gt ge ne add sub mul floordiv mod pow and or xor lshift
+    rshift neg pos invert abs bool contains getitem setitem""".split())
+BARRED_WORDS = set("""type typing typing_extensions enum Enum IntEnum StrEnum Flag IntFlag Generic Protocol ABC ABCMeta
+    namedtuple NamedTuple TypedDict TYPE_CHECKING abstractmethod""".split())
+BARRED_NAMES = set("""register mro elements open input law version_info with_traceback add_note attrgetter breakpoint
+    builtins compile copyright credits delattr dir eval exec exit gc getattr globals hasattr help id importlib license
+    locals methodcaller os quit setattr type vars sys""".split())
+TAKES_A_LIST = ("any", "all", "min", "max", "sum", "sorted")
+BARRED_NODES = (ast.Global, ast.AsyncFunctionDef, ast.AsyncFor, ast.AsyncWith, ast.Await, ast.Import, ast.Div,
+                ast.MatMult, ast.TryStar, ast.MatchClass, ast.MatchMapping)
+FUNCTIONS = (ast.FunctionDef, ast.Lambda)
+
+
+def nodes(kind):
+    """All nodes of a kind, each with its file's name."""
+    return [(path.name, node) for path in FILES for node in ast.walk(TREES[path]) if isinstance(node, kind)]
+
+
+def bound_names(tree):
+    """Every name that a file binds, by an assignment, a loop, a parameter, a def, a class or a handler."""
+    told = []
+    for node in ast.walk(tree):
+        if isinstance(node, ast.Name) and isinstance(node.ctx, ast.Store):
+            told.append(node.id)
+        elif isinstance(node, ast.arg):
+            told.append(node.arg)
+        elif isinstance(node, (ast.FunctionDef, ast.ClassDef, ast.ExceptHandler)) and node.name:
+            told.append(node.name)
+        elif isinstance(node, ast.alias):
+            told.append(node.asname or node.name)
+    return told
+
+
+def top_names(tree):
+    """The names that a file itself defines at module level."""
+    told = [node.name for node in tree.body if isinstance(node, (ast.FunctionDef, ast.ClassDef))]
+    return told + [node.targets[0].id for node in tree.body if isinstance(node, ast.Assign)]
+
+
+def file_of(module):
+    return PACKAGE / (module.partition("partkits.")[2].replace(".", "/") + ".py")
+
+
+class Files(unittest.TestCase):
+    def test_nothing_but_files_of_plain_names(self):
+        for path in PACKAGE.rglob("*"):
+            if "__pycache__" not in path.parts:
+                self.assertRegex(path.name, r"^[a-z0-9_]+\.py$")
+        self.assertLessEqual(len(FILES), 100)
+        self.assertTrue((PACKAGE / "__init__.py").exists())
+
+    def test_size_and_signs(self):
+        for path in FILES:
+            text = path.read_text()
+            lines = text.split("\n")
+            self.assertLessEqual(len(lines), 399, path.name)
+            for number, line in enumerate(lines, 1):
+                self.assertLessEqual(len(line), 120, (path.name, number))
+                self.assertRegex(line, r"^[ -~]*$", (path.name, number))
+        for name, node in nodes(ast.FunctionDef):
+            self.assertLessEqual(node.end_lineno - node.lineno + 1, 40, (name, node.name))
+
+    def test_barred_words(self):
+        for path in FILES:
+            text = path.read_text()
+            self.assertEqual(BARRED_WORDS & set(re.findall(r"\w+", text)), set(), path.name)
+            self.assertNotRegex(text, "dataclass|overload|contextmanager", path.name)
+
+
+class Imports(unittest.TestCase):
+    def test_from_the_very_file_that_defines_the_name(self):
+        for name, node in nodes(ast.ImportFrom):
+            self.assertEqual(node.level, 0, name)
+            self.assertTrue(node.module.startswith("partkits."), (name, node.module))
+            for alias in node.names:
+                self.assertIn(alias.name, top_names(TREES[file_of(node.module)]), name)
+
+    def test_at_the_top_and_in_no_circle(self):
+        needs = {}
+        for path in FILES:
+            body = [node for node in TREES[path].body if not isinstance(node, ast.Expr)]
+            inside = [node for node in ast.walk(TREES[path]) if isinstance(node, ast.ImportFrom)]
+            self.assertEqual(body[:len(inside)], inside, path.name)
+            needs[path] = {file_of(node.module) for node in inside}
+        while needs:
+            free = [path for path in needs if not needs[path]]
+            self.assertNotEqual(free, [], "imports in a circle")
+            needs = {path: needs[path] - set(free) for path in needs if path not in free}
+
+
+class Statements(unittest.TestCase):
+    def test_module_level(self):
+        for path in FILES:
+            for at, node in enumerate(TREES[path].body):
+                doc = at == 0 and isinstance(node, ast.Expr) and isinstance(node.value, ast.Constant)
+                plain = isinstance(node, ast.Assign) and [isinstance(t, ast.Name) for t in node.targets] == [True]
+                known = isinstance(node, (ast.ImportFrom, ast.FunctionDef, ast.ClassDef))
+                self.assertTrue(doc or plain or known, (path.name, node.lineno))
+
+    def test_barred_statements_and_signs(self):
+        self.assertEqual([(name, node) for name, node in nodes(BARRED_NODES)], [])
+        for name, node in nodes(ast.Constant):
+            self.assertNotIsInstance(node.value, (float, complex), name)
+            if isinstance(node.value, str):
+                self.assertNotIn("%", node.value, name)
+
+    def test_is_only_with_none_and_truths(self):
+        for name, node in nodes(ast.Compare):
+            for sign, right in zip(node.ops, node.comparators):
+                if isinstance(sign, (ast.Is, ast.IsNot)):
+                    self.assertIn(ast.unparse(right), ("None", "True", "False"), (name, node.lineno))
+
+    def test_lists_where_a_generator_is_barred(self):
+        for name, node in nodes(ast.Call):
+            if isinstance(node.func, ast.Name) and node.func.id in TAKES_A_LIST:
+                for argument in node.args:
+                    self.assertNotIsInstance(argument, ast.GeneratorExp, (name, node.lineno))
+
+    def test_parameters_and_decorators(self):
+        for name, node in nodes(FUNCTIONS):
+            self.assertEqual(node.args.posonlyargs, [], name)
+        for name, node in nodes(ast.FunctionDef):
+            for decorator in node.decorator_list:
+                self.assertIn(ast.unparse(decorator).partition(".")[2] or ast.unparse(decorator),
+                              ("property", "setter", "staticmethod", "classmethod"), name)
+        for name, node in nodes(ast.ClassDef):
+            self.assertEqual(node.decorator_list, [], name)
+
+
+class Names(unittest.TestCase):
+    def test_plain_names(self):
+        for path in FILES:
+            for bound in bound_names(TREES[path]):
+                if bound.startswith("__"):
+                    self.assertIn(bound.strip("_"), DOUBLE, path.name)
+                else:
+                    self.assertRegex(bound, r"^[A-Za-z][A-Za-z0-9_]*$", path.name)
+                    self.assertNotIn(bound, BARRED_NAMES, path.name)
+                    self.assertNotIn(bound, dir(builtins), path.name)
+
+    def test_one_binding_at_module_level(self):
+        for path in FILES:
+            imported = [alias.asname or alias.name for node in TREES[path].body if isinstance(node, ast.ImportFrom)
+                        for alias in node.names]
+            bound = top_names(TREES[path]) + imported
+            self.assertEqual(len(bound), len(set(bound)), path.name)
+            taken = imported + [node.name for node in TREES[path].body if isinstance(node, ast.ClassDef)]
+            inner = [node.id for node in ast.walk(TREES[path])
+                     if isinstance(node, ast.Name) and isinstance(node.ctx, ast.Store)]
+            inner += [node.arg for node in ast.walk(TREES[path]) if isinstance(node, ast.arg)]
+            self.assertEqual(set(taken) & set(inner), set(), path.name)
+
+    def test_known_builtins_only(self):
+        for path in FILES:
+            for node in ast.walk(TREES[path]):
+                if isinstance(node, ast.Name) and hasattr(builtins, node.id):
+                    self.assertIn(node.id, BUILTINS, (path.name, node.lineno))
+
+    def test_known_methods_and_attributes_only(self):
+        classes = [node for name, node in nodes(ast.ClassDef)]
+        methods = {inner.name for node in classes for inner in node.body if isinstance(inner, ast.FunctionDef)}
+        stored = {node.attr for name, node in nodes(ast.Attribute) if isinstance(node.ctx, ast.Store)}
+        self.assertEqual(methods & stored, set())
+        called = {id(node.func) for name, node in nodes(ast.Call)}
+        for name, node in nodes(ast.Attribute):
+            if id(node) in called:
+                self.assertIn(node.attr, methods | METHODS, (name, node.lineno))
+            elif isinstance(node.ctx, ast.Load):
+                self.assertIn(node.attr, stored | methods, (name, node.lineno))
+
+
+if __name__ == "__main__":
+    unittest.main()
