@@ -12,6 +12,13 @@ FUNCTIONS = {
     "sheets": ("is_want(thing)", "is_way(thing)", "is_sheet(thing)", "is_plain(sheet)", "choices(sheet)",
                "wants_of(sheet, choice=None)", "joined(one, other)", "tidy(sheet)"),
     "sorting": ("sorted_parts(rows, by='form', turned=False)", "sorted_sheets(named, by='name', turned=False)"),
+    "wording": ("renamed(heap, forms=None, shades=None)", "sheet_renamed(sheet, forms=None, shades=None)"),
+    "dealings": ("is_given(wants, thing)", "serves(heap, wants, given)", "is_dealing(heap, sheet, thing)",
+                 "given_sum(wants, given)"),
+    "barchecker": ("lets_bar(heap, wants, thing)",),
+    "dealing": ("deal(heap, wants)",),
+    "changes": ("is_changed(wants, thing)", "changes_in(wants, given)", "changed(heap, wants)"),
+    "changechecker": ("lets_changed(heap, wants, thing)",),
 }
 CLASSES = {
     "errors": {name: () for name in (

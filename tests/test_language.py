@@ -30,6 +30,12 @@ TAKES_A_LIST = ("any", "all", "min", "max", "sum", "sorted")
 BARRED_NODES = (ast.Global, ast.AsyncFunctionDef, ast.AsyncFor, ast.AsyncWith, ast.Await, ast.Import, ast.Div,
                 ast.MatMult, ast.TryStar, ast.MatchClass, ast.MatchMapping)
 FUNCTIONS = (ast.FunctionDef, ast.Lambda)
+AT_ONCE = {"zip", "enumerate", "range", "reversed", "items", "keys", "values"}
+ITERATES = {"list", "tuple", "dict", "sorted", "sum", "any", "all", "enumerate", "zip", "min", "max"}
+KEYWORDS = {"sorted": {"key", "reverse"}, "min": {"key", "default"}, "max": {"key", "default"}, "sum": {"start"},
+            "enumerate": {"start"}, "zip": {"strict"}}
+MODIFIES = {"append", "clear", "extend", "insert", "pop", "remove", "reverse", "setdefault", "update", "sort"}
+COMPREHENSIONS = (ast.ListComp, ast.SetComp, ast.DictComp, ast.GeneratorExp)
 
 
 def nodes(kind):
@@ -50,6 +56,37 @@ def bound_names(tree):
         elif isinstance(node, ast.alias):
             told.append(node.asname or node.name)
     return told
+
+
+def parents(tree):
+    """A dict from each node, by its id, to the one around it."""
+    return {id(inner): node for node in ast.walk(tree) for inner in ast.iter_child_nodes(node)}
+
+
+def called_name(node):
+    """The name of the function or method that a node calls, else None."""
+    if not isinstance(node, ast.Call):
+        return None
+    return node.func.id if isinstance(node.func, ast.Name) else getattr(node.func, "attr", None)
+
+
+def iterated(node):
+    """What a loop or a comprehension goes through, as text, also within enumerate, zip and the like."""
+    if called_name(node) in AT_ONCE:
+        inner = node.args if isinstance(node.func, ast.Name) else [node.func.value]
+        return [text for argument in inner for text in iterated(argument)]
+    return [ast.unparse(node)] if isinstance(node, (ast.Name, ast.Attribute, ast.Subscript)) else []
+
+
+def modified(node):
+    """What a node changes, as text: an item that is assigned or deleted, or what a method changes."""
+    if isinstance(node, ast.Subscript) and not isinstance(node.ctx, ast.Load):
+        return ast.unparse(node.value)
+    if isinstance(node, ast.Call) and isinstance(node.func, ast.Attribute) and node.func.attr in MODIFIES:
+        return ast.unparse(node.func.value)
+    if isinstance(node, ast.AugAssign):
+        return ast.unparse(node.target)
+    return None
 
 
 def top_names(tree):
@@ -148,6 +185,65 @@ class Statements(unittest.TestCase):
             self.assertEqual(node.decorator_list, [], name)
 
 
+class Iterated(unittest.TestCase):
+    def test_iterated_at_once(self):
+        for path in FILES:
+            around = parents(TREES[path])
+            for node in ast.walk(TREES[path]):
+                if called_name(node) in AT_ONCE:
+                    above = around[id(node)]
+                    looped = isinstance(above, (ast.For, ast.comprehension)) and above.iter is node
+                    self.assertTrue(looped or called_name(above) in ITERATES, (path.name, node.lineno))
+
+    def test_sets_stand_where_they_may(self):
+        for path in FILES:
+            around = parents(TREES[path])
+            for node in ast.walk(TREES[path]):
+                if isinstance(node, (ast.Set, ast.SetComp)) or called_name(node) == "set":
+                    above = around[id(node)]
+                    right = called_name(above) in ("sorted", "len") and above.keywords == []
+                    self.assertTrue(right or isinstance(above, ast.Compare), (path.name, node.lineno))
+
+    def test_what_is_gone_through_is_not_changed_meanwhile(self):
+        for name, node in nodes((ast.For,) + COMPREHENSIONS):
+            heads = [node.iter] if isinstance(node, ast.For) else [part.iter for part in node.generators]
+            through = {text for head in heads for text in iterated(head)}
+            body = node.body if isinstance(node, ast.For) else [node]
+            changes = {modified(inner) for row in body for inner in ast.walk(row)}
+            self.assertEqual(through & changes, set(), (name, node.lineno))
+
+    def test_comprehensions_are_small(self):
+        for name, node in nodes(COMPREHENSIONS):
+            self.assertLessEqual(len(node.generators), 6, name)
+            self.assertLessEqual(sum(len(part.ifs) for part in node.generators), 12, name)
+
+
+class Errors(unittest.TestCase):
+    def own(self):
+        return {node.name for node in TREES[PACKAGE / "errors.py"].body if isinstance(node, ast.ClassDef)}
+
+    def test_only_own_errors_are_raised_and_taken(self):
+        for name, node in nodes(ast.Raise):
+            self.assertTrue(node.exc is None or called_name(node.exc) in self.own(), (name, node.lineno))
+        for name, node in nodes(ast.ExceptHandler):
+            self.assertIn(ast.unparse(node.type), self.own() | {"KeyError"}, (name, node.lineno))
+
+    def test_keywords_of_builtins(self):
+        for name, node in nodes(ast.Call):
+            if isinstance(node.func, ast.Name) and node.func.id in BUILTINS:
+                used = {keyword.arg for keyword in node.keywords}
+                self.assertTrue(used <= KEYWORDS.get(node.func.id, set()), (name, node.lineno))
+
+    def test_builtins_are_called_or_looked_for(self):
+        for path in FILES:
+            around = parents(TREES[path])
+            for node in ast.walk(TREES[path]):
+                if isinstance(node, ast.Name) and node.id in BUILTINS:
+                    above = around[id(node)]
+                    looked = called_name(above) == "isinstance" or isinstance(above, (ast.Tuple, ast.ClassDef))
+                    self.assertTrue(looked or getattr(above, "func", None) is node, (path.name, node.lineno))
+
+
 class Names(unittest.TestCase):
     def test_plain_names(self):
         for path in FILES:
@@ -176,6 +272,11 @@ class Names(unittest.TestCase):
             for node in ast.walk(TREES[path]):
                 if isinstance(node, ast.Name) and hasattr(builtins, node.id):
                     self.assertIn(node.id, BUILTINS, (path.name, node.lineno))
+
+    def test_no_sort_and_no_name_that_begins_with_an_underscore(self):
+        for name, node in nodes(ast.Attribute):
+            self.assertNotEqual(node.attr, "sort", (name, node.lineno))
+            self.assertTrue(not node.attr.startswith("_") or node.attr == "__init__", (name, node.lineno))
 
     def test_known_methods_and_attributes_only(self):
         classes = [node for name, node in nodes(ast.ClassDef)]
