@@ -31,3 +31,11 @@ def lets_bar(heap, wants, thing):
     if over_at(heap, wants, form, shades) <= 0:
         raise NoPaper("more", -1)
     return True
+
+
+def is_bar(heap, wants, thing):
+    """True where thing is a BAR of the HEAP and the WANTS, else False."""
+    try:
+        return lets_bar(heap, wants, thing)
+    except NoPaper:
+        return False

@@ -19,6 +19,11 @@ FUNCTIONS = {
     "dealing": ("deal(heap, wants)",),
     "changes": ("is_changed(wants, thing)", "changes_in(wants, given)", "changed(heap, wants)"),
     "changechecker": ("lets_changed(heap, wants, thing)",),
+    "leastmost": ("least_most(heap, wants, form, shade)",),
+    "lmpapers": ("span_paper(heap, wants, form, shade)",),
+    "lmchecker": ("lets_least_most(heap, wants, form, shade, thing)",),
+    "cases": ("build(heap, sheet)",),
+    "casechecker": ("lets_cases(heap, sheet, thing)",),
 }
 CLASSES = {
     "errors": {name: () for name in (
