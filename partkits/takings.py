@@ -1,6 +1,7 @@
 """Which WAYS of a SHEET are TAKEN: for each ROW the place of its WAY, or None (point 35)."""
 
 from partkits.kinds import is_number
+from partkits.replacing import replaced
 
 
 def taken_first(sheet):
@@ -10,7 +11,7 @@ def taken_first(sheet):
 
 def taken_with(taken, row, way):
     """What is TAKEN where of this ROW this WAY is, too."""
-    return taken[:row] + (way,) + taken[row + 1:]
+    return replaced(taken, row, way)
 
 
 def is_open_row(taken, thing):

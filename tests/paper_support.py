@@ -2,11 +2,13 @@
 
 import itertools
 
-from partkits.errors import HeapError, KitError, NoDealing, NoKits, NoPaper, PageError, PaperError, TextError
+from partkits.errors import (HeapError, KitError, NoDealing, NoKits, NoPaper, NoParts, NoThing, PageError, PaperError,
+                             TextError)
 from partkits.heaps import Heap
 from tests.support import NO_MANYS, NO_TUPLES, NO_WORDS, deep, replaced
 
 OTHER_FAMILIES = (HeapError, PageError, TextError)
+FAMILIES = {PaperError: (NoPaper, NoDealing, NoKits), HeapError: (NoParts, NoThing), PageError: (), TextError: ()}
 
 
 def all_gifts(shades, many):
@@ -117,12 +119,14 @@ class Refusals:
             return
         self.fail(("let by", told, things))
 
-    def assert_families(self, own, ask):
-        """That it is taken by its own name, by PaperError, KitError and ValueError, and by no other family."""
-        for taker in (own, PaperError, KitError, ValueError):
+    def assert_families(self, own, ask, family=PaperError):
+        """That it is taken by its own name, by its family's, KitError and ValueError, and by no other family."""
+        for taker in (own, family, KitError, ValueError):
             with self.assertRaises(taker):
                 ask()
-        for taker in OTHER_FAMILIES + tuple({NoPaper, NoDealing, NoKits} - {own}):
+        others = [other for other in FAMILIES if other is not family]
+        others += [other for names in FAMILIES.values() for other in names if other is not own]
+        for taker in others:
             with self.assertRaises(own):
                 try:
                     ask()

@@ -10,28 +10,16 @@ from partkits.errors import NoPaper
 from partkits.heaps import Heap
 from tests.paper_support import Refusals, small_heaps, subsets
 from tests.support import LARGEST, NO_NUMBERS, NO_TUPLES, NO_WORDS, builds, chances, deep, replaced, some_rows, some_sheet
+from tests.tree_support import plain_nodes, with_node
 
 RED, BLUE, ANY = ("brick", ("red",), 1), ("brick", ("blue",), 1), ("plate", (), 1)
 # ROWS 1 and 3 have one WAY, ROWS 0, 2 and 4 several; a red brick alone is too few throughout
 SHEET = (((RED,), (BLUE,)), ((RED,),), ((RED,), (), (ANY,)), ((),), ((BLUE,), (ANY, ANY)))
 HEAP = Heap((("brick", "red", 1),))
 BAR_RED, BAR_BLUE, BAR_PLATE = ("bar", "brick", ("red",)), ("bar", "brick", ("blue",)), ("bar", "plate", None)
+FIRST = {"row": 2}
 # 0: ROW 0, 1: bar, 2: ROW 4, 3: bar, 4: ROW 2, 5, 6, 7: bars
 TREE = ("row", 0, BAR_RED, ("row", 4, BAR_BLUE, ("row", 2, BAR_PLATE, ("bar", "brick", None), BAR_PLATE)))
-
-
-def plain_nodes(tree):
-    """(path, node) of each NODE, in the order in which they are numbered."""
-    told = [((), tree)]
-    if tree[0] == "row":
-        for at, below in enumerate(tree[2:], 2):
-            told += [((at,) + path, node) for path, node in plain_nodes(below)]
-    return told
-
-
-def with_node(tree, path, node):
-    """The tree with another thing in the place of a NODE."""
-    return node if not path else replaced(tree, path[0], with_node(tree[path[0]], path[1:], node))
 
 
 def all_trees(sheet, free, bars):
@@ -104,7 +92,7 @@ class LetBy(unittest.TestCase, Refusals):
 class Refused(unittest.TestCase, Refusals):
     def refused_everywhere(self, word, wrongs, kinds):
         """That each thing that is made of a NODE of a kind is refused with the word and the number of the NODE."""
-        for number, (path, node) in enumerate(plain_nodes(TREE)):
+        for number, (path, node) in enumerate(plain_nodes(TREE, FIRST)):
             if node[0] in kinds:
                 for wrong in wrongs(node):
                     self.assert_no_paper(word, number, lets_cases, HEAP, SHEET, with_node(TREE, path, wrong))
@@ -168,7 +156,7 @@ class Refused(unittest.TestCase, Refusals):
                                    (("row", 0, ("row", 4, BAR_RED, BAR_RED), ("row", 4, 1, 1)), "shape", 5),
                                    (("row", 0, ("row", 4, BAR_BLUE, BAR_PLATE), ("row", 4, BAR_BLUE, ())), "shape", 6)):
             self.assert_no_paper(word, number, lets_cases, HEAP, SHEET, tree)
-        paths = [path for path, node in plain_nodes(TREE)]
+        paths = [path for path, node in plain_nodes(TREE, FIRST)]
         for one, other in itertools.combinations(range(len(paths)), 2):
             if paths[other][:len(paths[one])] != paths[one]:
                 tree = with_node(with_node(TREE, paths[one], ()), paths[other], ())
@@ -220,9 +208,9 @@ class Wholly(unittest.TestCase):
             told = lets_cases(heap, sheet, tree)
         except NoPaper as refusal:
             self.assertEqual(refusal.word, "bar")
-            self.assertEqual(plain_nodes(tree)[refusal.at][1][0], "bar")
+            self.assertEqual(plain_nodes(tree, FIRST)[refusal.at][1][0], "bar")
             return False
-        self.assertEqual(told, sum(node[0] == "bar" for path, node in plain_nodes(tree)))
+        self.assertEqual(told, sum(node[0] == "bar" for path, node in plain_nodes(tree, FIRST)))
         return True
 
     def test_what_build_tells_is_let_by_and_by_less_than_that_nothing(self):
@@ -230,7 +218,7 @@ class Wholly(unittest.TestCase):
             heap, sheet = Heap(some_rows(chance)), some_sheet(chance, rows=3, ways=3, wants=2)
             word, tree = build(heap, sheet)
             if word == "cases":
-                nodes = plain_nodes(tree)
+                nodes = plain_nodes(tree, FIRST)
                 self.assertEqual(lets_cases(heap, sheet, tree), sum(node[0] == "bar" for path, node in nodes))
                 for number, (path, node) in enumerate(nodes):
                     with self.assertRaises(NoPaper) as caught:

@@ -24,6 +24,12 @@ FUNCTIONS = {
     "lmchecker": ("lets_least_most(heap, wants, form, shade, thing)",),
     "cases": ("build(heap, sheet)",),
     "casechecker": ("lets_cases(heap, sheet, thing)",),
+    "most": ("sheet_of(things, places)", "most(heap, things)"),
+    "mostpapers": ("most_paper(heap, things)",),
+    "mostchecker": ("lets_most(heap, things, thing)",),
+    "onemore": ("one_more(heap, things, places, k)", "joinable(heap, things, places)"),
+    "kitting": ("fewest(heap, kits, sheet)",),
+    "kitpapers": ("fewest_paper(heap, kits, sheet)",),
 }
 CLASSES = {
     "errors": {name: () for name in (
