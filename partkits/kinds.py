@@ -10,6 +10,11 @@ def is_number(thing):
     return isinstance(thing, int) and not isinstance(thing, bool)
 
 
+def is_count(thing):
+    """True where thing is a NUMBER from 0 on."""
+    return is_number(thing) and thing >= 0
+
+
 def is_many(thing):
     """True where thing is a NUMBER from 1 on."""
     return is_number(thing) and thing >= 1

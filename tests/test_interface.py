@@ -30,6 +30,12 @@ FUNCTIONS = {
     "onemore": ("one_more(heap, things, places, k)", "joinable(heap, things, places)"),
     "kitting": ("fewest(heap, kits, sheet)",),
     "kitpapers": ("fewest_paper(heap, kits, sheet)",),
+    "kitchecker": ("lets_never(heap, kits, sheet, thing)", "lets_kits(heap, kits, sheet, thing)"),
+    "classes": ("marks_of(vocabulary, form, shade)", "is_alike(vocabulary, one, other)"),
+    "apart": ("parting(vocabulary, one, other)",),
+    "apartchecker": ("lets_parting(vocabulary, one, other, thing)",),
+    "pages": ("is_deed(thing)", "is_page(thing)", "is_tale(thing)", "with_page(tale, page)", "without_page(tale, page)",
+              "until(tale, hour=None)"),
 }
 CLASSES = {
     "errors": {name: () for name in (

@@ -34,6 +34,7 @@ AT_ONCE = {"zip", "enumerate", "range", "reversed", "items", "keys", "values"}
 ITERATES = {"list", "tuple", "dict", "sorted", "sum", "any", "all", "enumerate", "zip", "min", "max"}
 KEYWORDS = {"sorted": {"key", "reverse"}, "min": {"key", "default"}, "max": {"key", "default"}, "sum": {"start"},
             "enumerate": {"start"}, "zip": {"strict"}}
+KEYS = {"len", "int", "str", "abs", "sum", "min", "max", "tuple"}
 MODIFIES = {"append", "clear", "extend", "insert", "pop", "remove", "reverse", "setdefault", "update", "sort"}
 COMPREHENSIONS = (ast.ListComp, ast.SetComp, ast.DictComp, ast.GeneratorExp)
 
@@ -241,7 +242,9 @@ class Errors(unittest.TestCase):
                 if isinstance(node, ast.Name) and node.id in BUILTINS:
                     above = around[id(node)]
                     looked = called_name(above) == "isinstance" or isinstance(above, (ast.Tuple, ast.ClassDef))
-                    self.assertTrue(looked or getattr(above, "func", None) is node, (path.name, node.lineno))
+                    as_key = isinstance(above, ast.keyword) and above.arg == "key" and node.id in KEYS
+                    right = looked or as_key or getattr(above, "func", None) is node
+                    self.assertTrue(right, (path.name, node.lineno))
 
 
 class Names(unittest.TestCase):
