@@ -2,13 +2,14 @@
 
 import itertools
 
-from partkits.errors import (HeapError, KitError, NoDealing, NoKits, NoPaper, NoParts, NoThing, PageError, PaperError,
-                             TextError)
+from partkits.errors import (HeapError, KitError, NoBack, NoDealing, NoKits, NoLine, NoPage, NoPaper, NoParts, NoText,
+                             NoThing, PageError, PaperError, TextError)
 from partkits.heaps import Heap
 from tests.support import NO_MANYS, NO_TUPLES, NO_WORDS, deep, replaced
 
 OTHER_FAMILIES = (HeapError, PageError, TextError)
-FAMILIES = {PaperError: (NoPaper, NoDealing, NoKits), HeapError: (NoParts, NoThing), PageError: (), TextError: ()}
+FAMILIES = {PaperError: (NoPaper, NoDealing, NoKits), HeapError: (NoParts, NoThing), PageError: (NoPage, NoBack),
+            TextError: (NoText, NoLine)}
 
 
 def all_gifts(shades, many):

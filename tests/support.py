@@ -4,6 +4,7 @@ import itertools
 import random
 import re
 
+from partkits.book import Book
 from partkits.heaps import Heap
 
 LARGEST = 10 ** 9
@@ -12,14 +13,14 @@ NUMBERS = (0, 1, -1, 2, 7, -7, LARGEST, -LARGEST, 10 ** 199, LONGEST_NUMBER, -LO
 MANYS = (1, 2, 7, LARGEST, LARGEST + 1, 10 ** 199, LONGEST_NUMBER)
 WORDS = ("a", "z", "ab", "abc", "red", "brick", "abcdefg", "abcdefgh", "zzzzzzzz")
 
-NO_TEXTS = (None, True, False, 0, 1, -1, LONGEST_NUMBER, (), [], ("red",), ["red"], ("r", "e", "d"), Heap())
+NO_TEXTS = (None, True, False, 0, 1, -1, LONGEST_NUMBER, (), [], ("red",), ["red"], ("r", "e", "d"), Heap(), Book())
 NO_WORDS = NO_TEXTS + (
     "", " ", "abcdefghi", "abcdefghijklmnop", "a" * 4000, "Red", "reD", "RED", "A", "re d", " red", "red ",
     "red1", "1", "-", "re-d", "re/d", "re_d", "red\n", "\n", "`", "{", "~", "@", "[")
-NO_NUMBERS = (None, True, False, "", "1", "red", (), [], (1,), [1], ((1,),), Heap())
+NO_NUMBERS = (None, True, False, "", "1", "red", (), [], (1,), [1], ((1,),), Heap(), Book())
 NO_MANYS = NO_NUMBERS + (0, -1, -LARGEST, -LONGEST_NUMBER)
 NO_TUPLES = (None, True, False, 0, 1, -1, LONGEST_NUMBER, "", "a", "abc", "brick", "brick/red:3", [], [()], [1, 2, 3],
-             Heap(), Heap((("brick", "red", 3),)))
+             Heap(), Heap((("brick", "red", 3),)), Book())
 
 
 def deep(levels, inner, as_list=False):

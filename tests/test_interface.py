@@ -36,6 +36,13 @@ FUNCTIONS = {
     "apartchecker": ("lets_parting(vocabulary, one, other, thing)",),
     "pages": ("is_deed(thing)", "is_page(thing)", "is_tale(thing)", "with_page(tale, page)", "without_page(tale, page)",
               "until(tale, hour=None)"),
+    "telling": ("asides(tale)", "heap_at(tale, hour=None)", "came(tale, hour=None)", "lost(tale, hour=None)",
+                "lent(tale, hour=None)", "things_at(tale, hour=None)", "thing_sheet(tale, name, hour=None)",
+                "holding(tale, name, hour=None)"),
+    "finishing": ("left_to_do(tale, name, hour=None)", "is_finished(tale, name, hour=None)",
+                  "can_finish(tale, names=None, hour=None)", "could_anew(tale, name, hour=None)"),
+    "lines": ("shown_parts(rows)", "shown_sheet(sheet)", "shown_page(page)", "shown_tale(tale)"),
+    "readings": ("read_parts(text)", "read_sheet(text)", "read_page(text, line=0)", "read_tale(text)"),
 }
 CLASSES = {
     "errors": {name: () for name in (
@@ -44,6 +51,10 @@ CLASSES = {
     "heaps": {"Heap": ("__init__(self, rows=None)", "rows(self)", "many(self, form, shade=None)", "forms(self)",
                        "plus(self, other)", "less(self, other)", "holds(self, other)", "__eq__(self, other)",
                        "__len__(self)", "__bool__(self)", "__str__(self)", "__repr__(self)")},
+    "book": {"Book": ("__init__(self)", "tell(self, thing)", "take(self, thing)", "bring(self, thing)",
+                      "back(self, times=1)", "tale(self)", "steps(self)", "then(self, k)", "turned(self)",
+                      "__len__(self)", "__str__(self)", "__eq__(self, other)")},
+    "desk": {"Desk": ("__init__(self)", "say(self, line)")},
 }
 
 

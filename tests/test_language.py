@@ -247,6 +247,38 @@ class Errors(unittest.TestCase):
                     self.assertTrue(right, (path.name, node.lineno))
 
 
+class Kept(unittest.TestCase):
+    def test_lists_and_dicts_at_module_level_are_only_read(self):
+        for path in FILES:
+            tables = {node.targets[0].id for node in TREES[path].body
+                      if isinstance(node, ast.Assign) and isinstance(node.value, (ast.List, ast.Dict))}
+            around = parents(TREES[path])
+            for node in ast.walk(TREES[path]):
+                if isinstance(node, ast.Name) and node.id in tables and isinstance(node.ctx, ast.Load):
+                    above = around[id(node)]
+                    item = isinstance(above, ast.Subscript) and above.value is node and isinstance(above.ctx, ast.Load)
+                    asked = isinstance(above, ast.Attribute) and above.attr == "get"
+                    self.assertTrue(item or asked or isinstance(above, ast.Compare), (path.name, node.lineno))
+
+    def test_what_is_in_a_table_is_called_by_a_name(self):
+        for name, node in nodes(ast.Call):
+            self.assertIsInstance(node.func, (ast.Name, ast.Attribute), (name, node.lineno))
+
+    def test_double_underscore_methods(self):
+        shown = ("str", "repr", "join")
+        for name, node in nodes(ast.FunctionDef):
+            if node.name in ("__len__", "__str__", "__repr__"):
+                self.assertIsInstance(node.body[-1], ast.Return, (name, node.name))
+                for inner in [inner.value for inner in ast.walk(node) if isinstance(inner, ast.Return)]:
+                    plain = isinstance(inner, (ast.Constant, ast.JoinedStr))
+                    called = called_name(inner) in (("len",) if node.name == "__len__" else shown)
+                    self.assertTrue(plain or called, (name, node.name))
+            if node.name in ("__eq__", "__len__", "__str__", "__repr__", "__bool__"):
+                changes = [inner for inner in ast.walk(node)
+                           if isinstance(inner, (ast.Assign, ast.AugAssign, ast.Delete)) or modified(inner)]
+                self.assertEqual(changes, [], (name, node.name))
+
+
 class Names(unittest.TestCase):
     def test_plain_names(self):
         for path in FILES:
