@@ -162,6 +162,13 @@ class Refused(unittest.TestCase, Refusals):
             for figures in ("7", "10", "999999999999", "100000000000"):
                 self.assertIs(is_page(read_page(" ".join(words[:at] + [figures] + words[at + 1:]))), True)
 
+    def test_words_of_eight_letters_and_of_nine(self):
+        for text, at in (("3 0 apart {} -", 3), ("3 0 begin {} .", 3), ("3 0 lay {} 0 0 0 red 1", 3),
+                         ("3 0 off barn 0 0 0 {} 1", 7), ("3 0 lend {} -", 3), ("3 0 bring ann brick/{}/1", 4),
+                         ("3 0 open {}/red/1 -", 3), ("3 0 open - brick/{}/1", 4), ("3 0 begin barn brick/a+{}/1", 4)):
+            self.assertEqual(shown_page(read_page(text.format("abcdefgh"))), text.format("abcdefgh"))
+            self.refused(0, at, read_page, text.format("abcdefghi"))
+
     def test_words_that_lack(self):
         for page in pages_of(*DEEDS):
             words = shown_page(page).split(" ")
